@@ -1,0 +1,188 @@
+"""What the tests share: webs to ask about, and slow answers made without the program's own reckoning."""
+
+from itertools import combinations, permutations
+
+from thinways.webs import made_web
+
+# Of every kind but numbers with a point.
+ANYTHING = (
+    None, True, False, 0, -1, 7, 10 ** 59, "", "3", "web", (), (0,), (1, 2), [], [1], {}, {1: 2}, {1, 2}, frozenset(),
+    b"ab", object(), int, len, range(3), ((((),),),), ("way", (0, 1)), (None,), ("a", "b", "c"), [[]], 3j,
+)
+
+# Tuples of whole numbers as judges have to bear them.
+ODD_TUPLES = (
+    (), (0,), (-1,), (24,), (0, 0), (0, -1), (1, 0, 1), (0, 1, 2, 3), (10 ** 59, -10 ** 59), (-10 ** 59,),
+    tuple(range(30)), tuple(range(-30, 0)), (5,) * 24, (10 ** 59,) * 400,
+)
+
+
+class Draw:
+    """Numbers that look drawn but are the same each time."""
+
+    def __init__(self, seed):
+        self.state = seed * 2654435761 + 12345
+
+    def below(self, bound):
+        self.state = (self.state * 6364136223846793005 + 1442695040888963407) % 2 ** 64
+        return (self.state >> 33) % bound
+
+
+def drawn_web(draw, n, many, longest):
+    ends = list(combinations(range(n), 2))
+    ties = []
+    while ends and len(ties) < many:
+        a, b = ends.pop(draw.below(len(ends)))
+        ties.append((a, b, 1 + draw.below(longest)))
+    return made_web(n, ties)
+
+
+def drawn_keep(draw, web):
+    return tuple(tie for tie in range(len(web[1])) if draw.below(4) > 0)
+
+
+def drawn_webs(count, most=6):
+    """Small webs, many of them with many ways that are as short."""
+    told = []
+    for seed in range(count):
+        draw = Draw(seed)
+        n = 1 + draw.below(most)
+        told.append(drawn_web(draw, n, draw.below(n * (n - 1) // 2 + 1), (1, 2, 4, 50)[seed % 4]))
+    return told
+
+
+def webs_and_keeps(count, most=6):
+    told = []
+    for seed, web in enumerate(drawn_webs(count, most)):
+        told.append((web, tuple(range(len(web[1])))))
+        told.append((web, drawn_keep(Draw(seed + 1000), web)))
+    return told
+
+
+def full_web(n, length=1):
+    return made_web(n, [(a, b, length) for a, b in combinations(range(n), 2)])
+
+
+def ring_web(n, length=1):
+    return made_web(n, [(i, (i + 1) % n, length) for i in range(n)])
+
+
+def great_webs():
+    """Webs at the bounds: 24 places, sixty ties, lengths near 10 ** 18."""
+    draw = Draw(77)
+    top = 10 ** 18
+    chords = [(i, (i + step) % 24, top - draw.below(5)) for i in range(24) for step in (1, 5)]
+    chords = chords + [(i, i + 12, top) for i in range(12)]
+    ladder = [(i, i + 12, top) for i in range(12)] + [(i, i + 1, top) for i in range(23) if i != 11]
+    dense = [(a, b, top - a * b) for a, b in list(combinations(range(12), 2))[:60]]
+    spread = drawn_web(Draw(5), 24, 60, 10 ** 18)
+    return [made_web(24, chords), made_web(24, ladder), made_web(24, dense), spread, drawn_web(Draw(6), 24, 60, 1)]
+
+
+def tied(web, keep):
+    """For each two places with a kept tie, either way round, (number, length)."""
+    told = {}
+    for number in keep:
+        a, b, length = web[1][number]
+        told[(a, b)] = (number, length)
+        told[(b, a)] = (number, length)
+    return told
+
+
+def ways_between(web, keep, a, b):
+    links = tied(web, keep)
+    told = []
+
+    def go(way):
+        if way[-1] == b:
+            told.append(way)
+            return
+        for place in range(web[0]):
+            if place not in way and (way[-1], place) in links:
+                go(way + (place,))
+
+    go((a,))
+    return told
+
+
+def slow_length(web, way):
+    links = tied(web, range(len(web[1])))
+    return sum(links[step][1] for step in zip(way, way[1:]))
+
+
+def slow_ties(web, way):
+    links = tied(web, range(len(web[1])))
+    return {links[step][0] for step in zip(way, way[1:])}
+
+
+def comes_first(one, other):
+    """Of two unlike sets of numbers, as the document words it."""
+    greatest = max(one ^ other)
+    return greatest not in one
+
+
+def slow_first(web, ways):
+    """The shortest, of several the one whose ties come first, gone through one by one; None of none."""
+    best = None
+    for way in ways:
+        if best is None or slow_length(web, way) < slow_length(web, best):
+            best = way
+        elif slow_length(web, way) == slow_length(web, best):
+            if comes_first(slow_ties(web, way), slow_ties(web, best)):
+                best = way
+    return best
+
+
+def slow_way(web, keep, a, b):
+    return slow_first(web, ways_between(web, keep, a, b))
+
+
+def slow_far(web, keep, a, b):
+    """Distances by going through all middle places, which bears great webs too."""
+    return slow_fars(web, keep)[a][b]
+
+
+def slow_fars(web, keep):
+    n = web[0]
+    fars = [[0 if a == b else None for b in range(n)] for a in range(n)]
+    for a, b, length in [web[1][tie] for tie in keep]:
+        fars[a][b] = fars[b][a] = length
+    for mid in range(n):
+        for a in range(n):
+            for b in range(n):
+                if fars[a][mid] is not None and fars[mid][b] is not None:
+                    through = fars[a][mid] + fars[mid][b]
+                    if fars[a][b] is None or through < fars[a][b]:
+                        fars[a][b] = through
+    return fars
+
+
+def slow_rings(web, keep):
+    links = tied(web, keep)
+    told = []
+    for size in range(3, web[0] + 1):
+        for places in combinations(range(web[0]), size):
+            for rest in permutations(places[1:]):
+                ring = (places[0],) + rest
+                steps = list(zip(ring, ring[1:] + ring[:1]))
+                if rest[0] < rest[-1] and all(step in links for step in steps):
+                    told.append(ring)
+    return told
+
+
+def changed_at_each(parts):
+    """The tuple with one thing otherwise at each place."""
+    told = []
+    for place, part in enumerate(parts):
+        if isinstance(part, int):
+            told.extend(parts[:place] + (other,) + parts[place + 1:] for other in (part - 1, part + 1, 10 ** 59))
+        told.append(parts[:place] + parts[place + 1:])
+        told.append(parts[:place] + (part, part) + parts[place + 1:])
+    return told
+
+
+def all_whole(thing):
+    """Whether a thing is made of tuples and of whole numbers that are never True or False."""
+    if isinstance(thing, tuple):
+        return all(all_whole(part) for part in thing)
+    return thing is None or isinstance(thing, str) or (isinstance(thing, int) and not isinstance(thing, bool))

@@ -1,0 +1,1 @@
+"""Webs thinned so that ways grow but little."""

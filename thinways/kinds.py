@@ -1,0 +1,14 @@
+"""What kind of thing something is: asked of anything, so nothing is compared before its kind is known."""
+
+
+# True and False are ints to Python, but no whole numbers here.
+def is_whole(thing):
+    return isinstance(thing, int) and not isinstance(thing, bool)
+
+
+def is_wholes(thing):
+    return isinstance(thing, tuple) and all([is_whole(part) for part in thing])
+
+
+def is_rising(parts):
+    return all([low < high for low, high in zip(parts, parts[1:])])
