@@ -170,15 +170,56 @@ def slow_rings(web, keep):
     return told
 
 
-def changed_at_each(parts):
-    """The tuple with one thing otherwise at each place."""
-    told = []
-    for place, part in enumerate(parts):
-        if isinstance(part, int):
-            told.extend(parts[:place] + (other,) + parts[place + 1:] for other in (part - 1, part + 1, 10 ** 59))
-        told.append(parts[:place] + parts[place + 1:])
-        told.append(parts[:place] + (part, part) + parts[place + 1:])
-    return told
+def altered(thing):
+    """The thing with one thing otherwise, at each place, however deep: changed, left out, twice, exchanged."""
+    others = {"keeps": "far", "far": "keeps", "way": "heights", "heights": "way"}
+    if isinstance(thing, str):
+        yield others[thing]
+    elif isinstance(thing, int):
+        yield from (thing - 1, thing + 1, 10 ** 59, -10 ** 59)
+    else:
+        for place, part in enumerate(thing):
+            for other in altered(part):
+                yield thing[:place] + (other,) + thing[place + 1:]
+            yield thing[:place] + thing[place + 1:]
+            yield thing[:place + 1] + thing[place:]
+            if place + 1 < len(thing) and part != thing[place + 1]:
+                yield thing[:place] + (thing[place + 1], part) + thing[place + 2:]
+
+
+def slow_hold(web, keep, heights):
+    if not isinstance(heights, tuple) or len(heights) != web[0]:
+        return False
+    return all(abs(heights[a] - heights[b]) <= length for a, b, length in [web[1][tie] for tie in keep])
+
+
+def slow_beyond(web, keep, tie, t, heights):
+    a, b, length = web[1][tie]
+    return slow_hold(web, keep, heights) and abs(heights[a] - heights[b]) > t * length
+
+
+def slow_within(web, keep, tie, t, way):
+    a, b, length = web[1][tie]
+    links = tied(web, keep)
+    if not isinstance(way, tuple) or way[:1] != (a,) or way[-1:] != (b,) or len(set(way)) < len(way):
+        return False
+    if any(step not in links for step in zip(way, way[1:])):
+        return False
+    return slow_length(web, way) <= t * length
+
+
+def slow_of_times(web, keep, t):
+    """For every two places, not for ties alone."""
+    fars = slow_fars(web, keep)
+    for a, row in enumerate(slow_fars(web, range(len(web[1])))):
+        for b, length in enumerate(row):
+            if length is not None and (fars[a][b] is None or fars[a][b] > t * length):
+                return False
+    return True
+
+
+def by_one(web):
+    return (web[0], tuple((a, b, 1) for a, b, length in web[1]))
 
 
 def all_whole(thing):

@@ -98,6 +98,10 @@ class TreeTest(unittest.TestCase):
                 self.assertEqual(node.finalbody, [], where)
             if isinstance(node, ast.Assign):
                 self.assertEqual(len(node.targets), 1, where)
+            if isinstance(node, ast.Expr):
+                # By itself stands a call, or the words at a file's top.
+                at_the_top = isinstance(node.value, ast.Constant) and node.lineno == 1
+                self.assertTrue(isinstance(node.value, ast.Call) or at_the_top, where)
             if isinstance(node, ast.ListComp):
                 self.assertEqual(len(node.generators), 1, where)
                 self.assertLessEqual(len(node.generators[0].ifs), 1, where)
@@ -146,7 +150,6 @@ class TreeTest(unittest.TestCase):
         for where, node in self.each():
             if isinstance(node, (ast.FunctionDef, ast.ClassDef)):
                 self.assertEqual(node.decorator_list, [], where)
-                self.assertNotIsInstance(getattr(node.body[0], "value", None), ast.Constant, where)
             if isinstance(node, ast.FunctionDef):
                 self.assertLessEqual(node.end_lineno - node.lineno + 1, 40, where)
                 self.assertIsNone(node.returns, where)

@@ -12,3 +12,12 @@ def is_wholes(thing):
 
 def is_rising(parts):
     return all([low < high for low, high in zip(parts, parts[1:])])
+
+
+def is_tuple_of(thing, many):
+    return isinstance(thing, tuple) and len(thing) == many
+
+
+# What is told begins with a word that says what the things behind it are.
+def is_told(thing, word, many):
+    return is_tuple_of(thing, many) and thing[0] == word

@@ -39,6 +39,14 @@ def cost_with(cost, length, weight):
     return (cost[0] + length, cost[1] + weight)
 
 
+def cost_along(web, places):
+    weights = tie_weights(web)
+    cost = (0, 0)
+    for tie in ties_along(web, places):
+        cost = cost_with(cost, web[1][tie][2], weights[tie])
+    return cost
+
+
 # For each place the cost (length, weight) of the way from the root, and the place ahead of it there.
 def reached_from(web, keep, root):
     weights = tie_weights(web)
