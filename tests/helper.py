@@ -10,6 +10,10 @@ ANYTHING = (
     b"ab", object(), int, len, range(3), ((((),),),), ("way", (0, 1)), (None,), ("a", "b", "c"), [[]], 3j,
 )
 
+NO_TIMES = tuple(thing for thing in ANYTHING if thing != 7) + (
+    100, -1, -99, 10 ** 59, -10 ** 59, (3,), [3], {3: 3}, "1", "99",
+)
+
 # Tuples of whole numbers as judges have to bear them.
 ODD_TUPLES = (
     (), (0,), (-1,), (24,), (0, 0), (0, -1), (1, 0, 1), (0, 1, 2, 3), (10 ** 59, -10 ** 59), (-10 ** 59,),
@@ -170,16 +174,23 @@ def slow_rings(web, keep):
     return told
 
 
-def altered(thing):
+OTHER_WORDS = {
+    "keeps": ("far",), "far": ("keeps", "tie"), "way": ("heights",), "heights": ("way",), "few": ("ring",),
+    "ring": ("few",), "kept": ("far", "tie"), "tie": ("kept", "far"),
+}
+
+
+def altered(thing, for_none=(), for_number=()):
     """The thing with one thing otherwise, at each place, however deep: changed, left out, twice, exchanged."""
-    others = {"keeps": "far", "far": "keeps", "way": "heights", "heights": "way"}
     if isinstance(thing, str):
-        yield others[thing]
+        yield from OTHER_WORDS[thing]
+    elif thing is None:
+        yield from for_none
     elif isinstance(thing, int):
-        yield from (thing - 1, thing + 1, 10 ** 59, -10 ** 59)
+        yield from (thing - 1, thing + 1, 10 ** 59, -10 ** 59) + for_number
     else:
         for place, part in enumerate(thing):
-            for other in altered(part):
+            for other in altered(part, for_none, for_number):
                 yield thing[:place] + (other,) + thing[place + 1:]
             yield thing[:place] + thing[place + 1:]
             yield thing[:place + 1] + thing[place:]
@@ -216,6 +227,31 @@ def slow_of_times(web, keep, t):
             if length is not None and (fars[a][b] is None or fars[a][b] > t * length):
                 return False
     return True
+
+
+def slow_pieces(web, keep):
+    """How many pieces there are, by marks that spread along the kept ties."""
+    marks = list(range(web[0]))
+    for a, b, length in [web[1][tie] for tie in keep] * web[0]:
+        marks[a] = marks[b] = min(marks[a], marks[b])
+    return len(set(marks))
+
+
+def outside(web, keep):
+    return tuple(tie for tie in range(len(web[1])) if tie not in keep)
+
+
+def all_keeps(web):
+    ties = range(len(web[1]))
+    return [keep for many in range(len(web[1]) + 1) for keep in combinations(ties, many)]
+
+
+def drawn_places(draw, n):
+    return tuple(place for place in range(n) if draw.below(3) == 0)
+
+
+def roofed(fars, roof):
+    return tuple(roof if far is None else min(far, roof) for far in fars)
 
 
 def by_one(web):

@@ -3,7 +3,7 @@ from fractions import Fraction
 from math import gcd
 
 from tests.helper import (
-    ANYTHING, ODD_TUPLES, Draw, all_whole, altered, drawn_keep, full_web, great_webs, ring_web, slow_beyond,
+    NO_TIMES, ODD_TUPLES, Draw, all_whole, altered, drawn_keep, full_web, great_webs, outside, ring_web, slow_beyond,
     slow_fars, slow_of_times, slow_way, slow_within, webs_and_keeps,
 )
 from thinways.errors import NoOrder, NoTimes
@@ -11,14 +11,7 @@ from thinways.rule import needed, ring_rule, rule_in, rule_right
 from thinways.times import least_ratio, times_right, times_told
 from thinways.webs import made_web, whole
 
-NO_TIMES = tuple(thing for thing in ANYTHING if thing != 7) + (
-    100, -1, -99, 10 ** 59, -10 ** 59, (3,), [3], {3: 3}, "1", "99",
-)
 RING = ring_web(5)
-
-
-def outside(web, keep):
-    return tuple(tie for tie in whole(web) if tie not in keep)
 
 
 def slow_times_right(web, keep, t, told):

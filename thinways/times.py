@@ -4,7 +4,7 @@ from thinways.errors import NoTimes
 from thinways.heights import across, heights_from, heights_hold
 from thinways.kinds import is_told, is_tuple_of, is_whole
 from thinways.webs import is_tie_number, whole
-from thinways.ways import far, the_way, way_length, way_right
+from thinways.ways import far, leads_between, the_way, way_length
 
 
 def need_times(t):
@@ -34,9 +34,7 @@ def heights_of(web, keep, tie, t):
 # A way from the lesser end of the tie to the other that shows it to be within its times.
 def way_within(web, keep, tie, t, way):
     a, b, length = web[1][tie]
-    if not way_right(web, keep, way) or way[0] != a or way[-1] != b:
-        return False
-    return is_within(web, tie, t, way)
+    return leads_between(web, keep, a, b, way) and is_within(web, tie, t, way)
 
 
 # Heights that show the ends of the tie to be farther than its times.

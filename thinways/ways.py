@@ -19,6 +19,10 @@ def way_right(web, keep, way):
     return all([tie in keep for tie in ties_along(web, way)])
 
 
+def leads_between(web, keep, a, b, way):
+    return way_right(web, keep, way) and way[0] == a and way[-1] == b
+
+
 def way_length(web, way):
     return sum([web[1][tie][2] for tie in ties_along(web, way)])
 
