@@ -198,8 +198,12 @@ def altered(thing, for_none=(), for_number=()):
                 yield thing[:place] + (thing[place + 1], part) + thing[place + 2:]
 
 
+def is_number(thing):
+    return isinstance(thing, int) and not isinstance(thing, bool)
+
+
 def slow_hold(web, keep, heights):
-    if not isinstance(heights, tuple) or len(heights) != web[0]:
+    if not isinstance(heights, tuple) or len(heights) != web[0] or not all(is_number(height) for height in heights):
         return False
     return all(abs(heights[a] - heights[b]) <= length for a, b, length in [web[1][tie] for tie in keep])
 
@@ -244,6 +248,30 @@ def outside(web, keep):
 def all_keeps(web):
     ties = range(len(web[1]))
     return [keep for many in range(len(web[1]) + 1) for keep in combinations(ties, many)]
+
+
+def plain_webs(count, most=6):
+    return [by_one(web) for web in drawn_webs(count, most)]
+
+
+def great_plain_webs():
+    """Plain webs at the bounds: 24 places, sixty ties, and long rings and rows."""
+    row = made_web(24, [(i, i + 1, 1) for i in range(23)])
+    return [by_one(web) for web in great_webs()] + [ring_web(24), row, full_web(11)]
+
+
+def neighbours_of(web, place):
+    links = tied(web, range(len(web[1])))
+    return [other for other in range(web[0]) if (place, other) in links]
+
+
+# One tie longer than 1, and what has no plain length at all.
+NOT_PLAIN = (
+    (3, ((0, 1, 1), (1, 2, 2))), (2, ((0, 1, 10 ** 18),)), (4, ((0, 1, 7), (0, 2, 1), (2, 3, 1))), full_web(11, 5),
+)
+NO_SHARES = tuple(thing for thing in ANYTHING if thing not in (7, 10 ** 59)) + (
+    0, -1, -10 ** 59, True, False, None, "1", "", (1,), [1], {}, {1: 1}, {1},
+)
 
 
 def drawn_places(draw, n):

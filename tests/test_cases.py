@@ -1,8 +1,8 @@
 import unittest
 
 from tests.helper import (
-    ANYTHING, NO_TIMES, ODD_TUPLES, Draw, all_keeps, altered, drawn_webs, full_web, great_webs, outside, ring_web,
-    roofed, slow_fars, slow_hold, slow_of_times, slow_pieces,
+    ANYTHING, NO_TIMES, ODD_TUPLES, Draw, all_keeps, altered, drawn_webs, full_web, great_webs, is_number, outside,
+    ring_web, roofed, slow_beyond, slow_fars, slow_of_times, slow_pieces,
 )
 from thinways.cases import cases_show
 from thinways.errors import NoTimes
@@ -13,17 +13,8 @@ RING = ring_web(4)
 KEPT = ("kept",)
 
 
-def is_number(thing):
-    return isinstance(thing, int) and not isinstance(thing, bool)
-
-
 def slow_far(web, t, out, tie, heights):
-    if not is_number(tie) or tie not in out or not isinstance(heights, tuple):
-        return False
-    if not all(is_number(height) for height in heights) or not slow_hold(web, outside(web, out), heights):
-        return False
-    a, b, length = web[1][tie]
-    return abs(heights[a] - heights[b]) > t * length
+    return is_number(tie) and tie in out and slow_beyond(web, outside(web, out), tie, t, heights)
 
 
 def slow_show(web, t, tree, kept=(), out=()):

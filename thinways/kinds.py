@@ -10,6 +10,12 @@ def is_wholes(thing):
     return isinstance(thing, tuple) and all([is_whole(part) for part in thing])
 
 
+def is_all_wholes(thing):
+    if isinstance(thing, tuple):
+        return all([is_all_wholes(part) for part in thing])
+    return is_whole(thing)
+
+
 def is_rising(parts):
     return all([low < high for low, high in zip(parts, parts[1:])])
 
