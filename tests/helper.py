@@ -2,6 +2,7 @@
 
 from itertools import combinations, permutations
 
+from thinways.errors import NoFalls, NoTimes, ThinError, TooMany
 from thinways.webs import made_web
 
 # Of every kind but numbers with a point.
@@ -176,7 +177,8 @@ def slow_rings(web, keep):
 
 OTHER_WORDS = {
     "keeps": ("far",), "far": ("keeps", "tie"), "way": ("heights",), "heights": ("way",), "few": ("ring",),
-    "ring": ("few",), "kept": ("far", "tie"), "tie": ("kept", "far"),
+    "ring": ("few",), "kept": ("far", "tie"), "tie": ("kept", "far"), "bears": ("breaks",), "breaks": ("bears",),
+    "ways": ("falls",), "falls": ("ways",),
 }
 
 
@@ -278,6 +280,38 @@ def drawn_places(draw, n):
     return tuple(place for place in range(n) if draw.below(3) == 0)
 
 
+def drawn_levels(draw, n, many):
+    """Each level some of the one ahead, now and then none."""
+    levels = [tuple(range(n))]
+    while len(levels) < many:
+        bound = 2 + draw.below(3)
+        levels.append(tuple(place for place in levels[-1] if draw.below(bound) > 0))
+    return tuple(levels)
+
+
+def levels_of(web, seed):
+    """Levels of one to six, drawn ones, all alike, and empty ones at the end."""
+    n = web[0]
+    every = tuple(range(n))
+    told = [drawn_levels(Draw(seed * 7 + many), n, many) for many in range(1, 7)]
+    return told + [(every,) * (1 + seed % 6), (every, ()), (every, every[:1], (), ()), (every, every[::2], every[::4])]
+
+
+def no_levels(n):
+    """What is no levels of n places, three at least."""
+    every = tuple(range(n))
+    return ANYTHING + (
+        (), (every,) * 7, ((),), ((), every), ((), ()), every, [every], (list(every),), (every, [0]),
+        (every, [0], (0,)), [every, (0,)], (every, list(every)), (every[::-1],), (every, (1, 0)), (every, (0, 0)),
+        (every, (0, 1, 1)), (every + every[-1:],), (every, (0, 1), (2,)), (every, (0,), (0, 1)), (every, (), (0,)), (every, (-1,)),
+        (every, (-1, 0)), (every, (n,)), (every, (0, n)), (every, (10 ** 59,)), (every, (-10 ** 59,)),
+        (every, (True,)), (every, (False,)), (every, (0, True)), ((False,) + every[1:],), (every, (None,)),
+        (every, None), (None, every), (every, ("0",)), (every, "0"), (every, ""), ("", every), (every, ((0,),)),
+        (every[:-1],), (every[1:],), (every + (n,),), ((-1,) + every,), (every[:-1], every[:-1]), (every, 0),
+        (every, {0: 0}), (every, {}), (every, range(1)), (range(n),), {0: every}, "012", (every, True), (every, {0}),
+    )
+
+
 def roofed(fars, roof):
     return tuple(roof if far is None else min(far, roof) for far in fars)
 
@@ -291,3 +325,84 @@ def all_whole(thing):
     if isinstance(thing, tuple):
         return all(all_whole(part) for part in thing)
     return thing is None or isinstance(thing, str) or (isinstance(thing, int) and not isinstance(thing, bool))
+
+
+NO_FALLS = tuple(thing for thing in ANYTHING if not is_number(thing) or thing not in (0, 1, 2)) + (
+    3, -1, True, False, None, "1", "", (1,), [1], {}, {1: 1}, 10 ** 59, -10 ** 59,
+)
+
+
+def great_webs_of_twelve():
+    """Webs at the bounds where falls are asked about."""
+    top = 10 ** 18
+    dense = made_web(12, [(a, b, top - a * b) for a, b in list(combinations(range(12), 2))[:60]])
+    even = made_web(12, [(a, b, top) for a, b in list(combinations(range(12), 2))[3:63]])
+    ladder = made_web(12, [(i, i + 6, top) for i in range(6)] + [(i, (i + 1) % 12, top - i) for i in range(12)])
+    return [dense, even, ladder, drawn_web(Draw(8), 12, 60, top), ring_web(12, top), full_web(11, top)]
+
+
+def fallen_sets(keep, f):
+    return [fallen for many in range(f + 1) for fallen in combinations(keep, many)]
+
+
+def stands(keep, fallen):
+    return tuple(tie for tie in keep if tie not in fallen)
+
+
+def ends_far(web, keep, tie, t):
+    a, b, length = web[1][tie]
+    far = slow_fars(web, keep)[a][b]
+    return far is None or far > t * length
+
+
+def breaks_at(web, keep, tie, t, f):
+    return any(ends_far(web, stands(keep, fallen), tie, t) for fallen in fallen_sets(keep, f))
+
+
+def slow_tree_right(web, keep, tie, t, f, fallen, tree):
+    """Of what is no pair of a way and a tuple, too."""
+    if not isinstance(tree, tuple) or len(tree) != 2:
+        return False
+    way, below = tree
+    if not slow_within(web, stands(keep, fallen), tie, t, way):
+        return False
+    if len(fallen) == f:
+        return below == ()
+    links = tied(web, keep)
+    ties = [links[step][0] for step in zip(way, way[1:])]
+    if not isinstance(below, tuple) or len(below) != len(ties):
+        return False
+    return all(slow_tree_right(web, keep, tie, t, f, fallen + (other,), part) for other, part in zip(ties, below))
+
+
+def slow_fall_right(web, keep, tie, t, f, fallen, heights):
+    if not isinstance(fallen, tuple) or fallen not in fallen_sets(keep, f):
+        return False
+    return slow_beyond(web, stands(keep, fallen), tie, t, heights)
+
+
+class FallRefusals:
+    """The refusals where falls are asked about, in their order; `asks` tells the questions."""
+
+    def refused(self, error, web, t, f):
+        for ask in self.asks(web, t, f):
+            with self.assertRaises(error) as caught:
+                ask()
+            self.assertIsInstance(caught.exception, ThinError)
+
+    def test_no_times_goes_first(self):
+        for t in NO_TIMES:
+            for web in (full_web(4), (12, ()), (13, ()), (24, ())):
+                for f in (0, 2, 3, None):
+                    self.refused(NoTimes, web, t, f)
+
+    def test_too_many_goes_ahead_of_no_falls(self):
+        for n in (13, 14, 24):
+            for f in (0, 1, 2) + NO_FALLS:
+                self.refused(TooMany, (n, ()), 3, f)
+                self.refused(TooMany, ring_web(n), 99, f)
+
+    def test_no_falls(self):
+        for f in NO_FALLS:
+            self.refused(NoFalls, full_web(4), 1, f)
+            self.refused(NoFalls, (12, ()), 99, f)

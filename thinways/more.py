@@ -3,8 +3,8 @@
 from thinways.errors import NoPlain
 from thinways.heights import heights_from, heights_hold
 from thinways.kinds import is_tuple_of
-from thinways.ways import fars_from, tree_from
-from thinways.webs import is_place, is_plain, tie_between, whole
+from thinways.ways import fars_from, led_to_root, tree_from
+from thinways.webs import is_plain, whole
 
 
 def need_plain(web):
@@ -34,23 +34,9 @@ def more_paper(web, keep):
     return tuple(papers)
 
 
-# How many ties one goes along, by the places ahead, till one comes to the root; None where one never does.
-def steps_to_root(web, keep, tree, root, place):
-    steps = 0
-    here = place
-    while here != root:
-        ahead = tree[here]
-        # As many steps as there are places lead twice to one of them, and so round and round.
-        if steps == web[0] or not is_place(web, ahead) or tie_between(web, here, ahead) not in keep:
-            return None
-        here = ahead
-        steps = steps + 1
-    return steps
-
-
 def is_led(web, keep, m, u, heights, tree, place):
-    steps = steps_to_root(web, keep, tree, u, place)
-    return steps is not None and steps <= heights[place] + m
+    way = led_to_root(web, keep, tree, u, place)
+    return way is not None and len(way) - 1 <= heights[place] + m
 
 
 def place_right(web, keep, m, u, heights, tree):

@@ -6,15 +6,14 @@ from thinways.ways import tree_from
 from thinways.webs import tie_between, whole
 
 
-def tree_ties(web, root):
-    tree = tree_from(web, whole(web), root)
+def tree_ties(web, tree):
     return [tie_between(web, place, ahead) for place, ahead in enumerate(tree) if ahead is not None]
 
 
 def post_trees(web, posts):
     ties = []
     for post in posts:
-        ties.extend(tree_ties(web, post))
+        ties.extend(tree_ties(web, tree_from(web, whole(web), post)))
     return tuple(sorted(set(ties)))
 
 

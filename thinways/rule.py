@@ -18,49 +18,66 @@ def reason_of(web, keep, tie, t):
     return ("heights", heights_of(web, keep, tie, t))
 
 
-def ruled(web, order, t):
-    keep = ()
+# Goes through ties behind those kept ahead; a tie is kept where its reason has this word.
+def ruled(keep, ties, word, reason_for):
     reasons = []
-    for tie in order:
-        reason = reason_of(web, keep, tie, t)
-        if reason[0] == "heights":
+    for tie in ties:
+        reason = reason_for(keep, tie)
+        if reason[0] == word:
             keep = with_tie(keep, tie)
         reasons.append(reason)
     return (keep, tuple(reasons))
 
 
+def ruled_behind(web, keep, ties, t):
+    return ruled(keep, ties, "heights", lambda ahead, tie: reason_of(web, ahead, tie, t))
+
+
 def ring_rule(web, t):
     need_times(t)
-    return ruled(web, order_of(web), t)
+    return ruled_behind(web, (), order_of(web), t)
 
 
 def rule_in(web, order, t):
     need_times(t)
     if not is_wholes(order) or tuple(sorted(order)) != whole(web):
         raise NoOrder("an order is a tuple of all numbers of ties, each once")
-    keep, reasons = ruled(web, order, t)
+    keep, reasons = ruled_behind(web, (), order, t)
     return keep
 
 
-# The keep that the reasons show, or None where one of them shows nothing.
-def shown_keep(web, t, reasons):
+# The verdict on a reason is True where it shows the tie to be kept, False where not to be, None where it shows nothing.
+def shown_keep(web, reasons, verdict):
     keep = ()
     for tie, reason in zip(order_of(web), reasons):
-        if is_told(reason, "heights", 2) and heights_beyond(web, keep, tie, t, reason[1]):
-            keep = with_tie(keep, tie)
-        elif not is_told(reason, "way", 2) or not way_within(web, keep, tie, t, reason[1]):
+        kept = verdict(keep, tie, reason)
+        if kept is None:
             return None
+        if kept:
+            keep = with_tie(keep, tie)
     return keep
 
 
-def rule_right(web, t, told):
-    need_times(t)
+def reasons_right(web, told, verdict):
     if not is_tuple_of(told, 2):
         return False
     keep, reasons = told
     if not is_wholes(keep) or not is_tuple_of(reasons, len(web[1])):
         return False
-    return keep == shown_keep(web, t, reasons)
+    return keep == shown_keep(web, reasons, verdict)
+
+
+def ring_verdict(web, keep, tie, t, reason):
+    if is_told(reason, "heights", 2) and heights_beyond(web, keep, tie, t, reason[1]):
+        return True
+    if is_told(reason, "way", 2) and way_within(web, keep, tie, t, reason[1]):
+        return False
+    return None
+
+
+def rule_right(web, t, told):
+    need_times(t)
+    return reasons_right(web, told, lambda keep, tie, reason: ring_verdict(web, keep, tie, t, reason))
 
 
 def needed(web, keep, t):

@@ -106,3 +106,15 @@ def pieces(web, keep):
     parts = [piece_of(web, keep, place) for place in range(web[0])]
     # Each piece is met once from each of its places and told by its least one alone.
     return tuple([part for place, part in enumerate(parts) if part[0] == place])
+
+
+# The places that one comes along, by the places ahead in the tree, till one is at the root; None where one never is.
+def led_to_root(web, keep, tree, root, place):
+    way = [place]
+    while way[-1] != root:
+        ahead = tree[way[-1]]
+        # Where one was already one would come again and again.
+        if not is_place(web, ahead) or ahead in way or tie_between(web, way[-1], ahead) not in keep:
+            return None
+        way.append(ahead)
+    return tuple(way)
