@@ -3,6 +3,7 @@
 from itertools import combinations, permutations
 
 from thinways.errors import NoFalls, NoTimes, ThinError, TooMany
+from thinways.forest import least_forest
 from thinways.webs import made_web
 
 # Of every kind but numbers with a point.
@@ -178,7 +179,7 @@ def slow_rings(web, keep):
 OTHER_WORDS = {
     "keeps": ("far",), "far": ("keeps", "tie"), "way": ("heights",), "heights": ("way",), "few": ("ring",),
     "ring": ("few",), "kept": ("far", "tie"), "tie": ("kept", "far"), "bears": ("breaks",), "breaks": ("bears",),
-    "ways": ("falls",), "falls": ("ways",),
+    "ways": ("falls",), "falls": ("ways",), "round": ("apart",), "apart": ("round",),
 }
 
 
@@ -233,6 +234,39 @@ def slow_of_times(web, keep, t):
             if length is not None and (fars[a][b] is None or fars[a][b] > t * length):
                 return False
     return True
+
+
+def slow_led(web, keep, tree, root, place):
+    """How long the way to the root is, by the places ahead; None where one doesn't come there."""
+    links = tied(web, keep)
+    gone = [place]
+    while gone[-1] != root:
+        ahead = tree[gone[-1]]
+        if not is_number(ahead) or (gone[-1], ahead) not in links or ahead in gone:
+            return None
+        gone.append(ahead)
+    return sum(links[step][1] for step in zip(gone, gone[1:]))
+
+
+def slow_rule(web, order, t):
+    """The keep of the rule of rings, by distances alone."""
+    kept = []
+    for tie in order:
+        a, b, length = web[1][tie]
+        far = slow_fars(web, kept)[a][b]
+        if far is None or far > t * length:
+            kept.append(tie)
+    return tuple(sorted(kept))
+
+
+def slow_order(web):
+    return sorted(range(len(web[1])), key=lambda tie: (web[1][tie][2], tie))
+
+
+def forest_there(web, root):
+    """The least forest's ties that hang together with the root."""
+    row = slow_fars(web, range(len(web[1])))[root]
+    return tuple(tie for tie in least_forest(web) if row[web[1][tie][0]] is not None)
 
 
 def slow_pieces(web, keep):
@@ -303,8 +337,8 @@ def no_levels(n):
     return ANYTHING + (
         (), (every,) * 7, ((),), ((), every), ((), ()), every, [every], (list(every),), (every, [0]),
         (every, [0], (0,)), [every, (0,)], (every, list(every)), (every[::-1],), (every, (1, 0)), (every, (0, 0)),
-        (every, (0, 1, 1)), (every + every[-1:],), (every, (0, 1), (2,)), (every, (0,), (0, 1)), (every, (), (0,)), (every, (-1,)),
-        (every, (-1, 0)), (every, (n,)), (every, (0, n)), (every, (10 ** 59,)), (every, (-10 ** 59,)),
+        (every, (0, 1, 1)), (every + every[-1:],), (every, (0, 1), (2,)), (every, (0,), (0, 1)), (every, (), (0,)),
+        (every, (-1,)), (every, (-1, 0)), (every, (n,)), (every, (0, n)), (every, (10 ** 59,)), (every, (-10 ** 59,)),
         (every, (True,)), (every, (False,)), (every, (0, True)), ((False,) + every[1:],), (every, (None,)),
         (every, None), (None, every), (every, ("0",)), (every, "0"), (every, ""), ("", every), (every, ((0,),)),
         (every[:-1],), (every[1:],), (every + (n,),), ((-1,) + every,), (every[:-1], every[:-1]), (every, 0),

@@ -2,8 +2,8 @@ import unittest
 
 from tests.helper import (
     NO_TIMES, ODD_TUPLES, Draw, all_whole, altered, drawn_keep, drawn_levels, drawn_webs, full_web, great_webs,
-    is_number, levels_of, no_levels, outside, ring_web, slow_fars, slow_length, slow_of_times, slow_ties, slow_way,
-    tied, ways_between,
+    is_number, levels_of, no_levels, outside, ring_web, slow_fars, slow_led, slow_length, slow_of_times, slow_ties,
+    slow_way, stands, ways_between,
 )
 from thinways.clusters import level_keep, level_paper, trees_right
 from thinways.errors import NoLevels, NoTimes, ThinError
@@ -47,18 +47,6 @@ def slow_sides(web, levels, keep):
         least = min(fars[w][a] + fars[w][b] for w in roots)
         told.append([w for w in roots if fars[w][a] + fars[w][b] == least][0])
     return tuple(told)
-
-
-def slow_led(web, keep, tree, root, place):
-    """How long the way is by the places ahead, None where it doesn't lead to the root."""
-    links = tied(web, keep)
-    gone = [place]
-    while gone[-1] != root:
-        ahead = tree[gone[-1]]
-        if (gone[-1], ahead) not in links or len(gone) > web[0]:
-            return None
-        gone.append(ahead)
-    return sum(links[step][1] for step in zip(gone, gone[1:]))
 
 
 def slow_rooted(web, pair):
@@ -232,6 +220,7 @@ class JudgeTest(unittest.TestCase):
         self.assertIs(trees_right(web, (0, 1), 2, ((), (0,))), False)
 
     def test_one_thing_otherwise_at_each_place(self):
+        seen = set()
         for seed, web in enumerate(drawn_webs(20, 5)):
             for levels in levels_of(web, seed)[seed % 3::3]:
                 keep = level_keep(web, levels)
@@ -239,6 +228,25 @@ class JudgeTest(unittest.TestCase):
                 for paper in altered(level_paper(web, levels), (0, 1, -1, web[0], 10 ** 59), (None,)):
                     right = trees_right(web, keep, t, paper)
                     self.assertIs(right, slow_trees_right(web, keep, t, paper), (web, keep, t, paper))
+                    seen.add(right)
+        self.assertEqual(seen, {True, False})
+
+    def test_with_one_tie_less_what_is_let_by_is_so(self):
+        seen = set()
+        for seed, web in enumerate(drawn_webs(30, 6)):
+            for levels in levels_of(web, seed)[seed % 3::3]:
+                paper = level_paper(web, levels)
+                keep = level_keep(web, levels)
+                for tie in keep:
+                    fewer = stands(keep, (tie,))
+                    more = dict(zip(outside(web, keep), paper[1]))
+                    for root in web[1][tie][:2]:
+                        sides = tuple(more.get(other, root) for other in outside(web, fewer))
+                        right = trees_right(web, fewer, 5, (paper[0], sides))
+                        self.assertIs(right, slow_trees_right(web, fewer, 5, (paper[0], sides)))
+                        self.assertTrue(not right or slow_of_times(web, fewer, 5))
+                        seen.add(right)
+        self.assertIn(False, seen)
 
     def test_of_any_keep(self):
         seen = set()

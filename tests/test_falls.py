@@ -125,6 +125,10 @@ class JudgeTest(unittest.TestCase):
                         right = falls_right(web, keep, t, f, paper)
                         self.assertIs(right, slow_falls_right(web, keep, t, f, paper), (web, keep, t, f, paper))
                         seen.add(right)
+                        if right:
+                            # Whoever made it: what is let by is so.
+                            broken = [tie for tie in outside(web, keep) if breaks_at(web, keep, tie, t, f)]
+                            self.assertTrue(paper[1] in broken if paper[0] == "breaks" else broken == [])
         self.assertEqual(seen, {True, False})
 
     def test_a_paper_for_another_f(self):

@@ -164,6 +164,30 @@ class TreeTest(unittest.TestCase):
                 for item in node.body:
                     self.assertIsInstance(item, (ast.FunctionDef, ast.Pass), where)
 
+    def test_classes(self):
+        classes = [node for where, node in self.each() if isinstance(node, ast.ClassDef)]
+        methods = [item for node in classes for item in node.body if isinstance(item, ast.FunctionDef)]
+        named = {method.name for method in methods}
+        taken = {name for kind in (str, int, list, dict, set, bytes, tuple) for name in dir(kind)}
+        for node in classes:
+            names = [item.name for item in node.body if isinstance(item, ast.FunctionDef)]
+            self.assertEqual(len(names), len(set(names)), node.name)
+            self.assertTrue(all(base.id.endswith("Error") for base in node.bases), node.name)
+        for method in methods:
+            self.assertEqual(method.args.args[0].arg, "self", method.name)
+            self.assertTrue(method.name in DOUBLE or method.name not in taken, method.name)
+            for node in ast.walk(method):
+                if isinstance(node, ast.Attribute) and isinstance(node.ctx, ast.Store):
+                    self.assertNotIn(node.attr, named | taken, method.name)
+                    self.assertIsInstance(node.value, ast.Name, method.name)
+                self.assertFalse(method.name == "__init__" and isinstance(node, ast.Return), method.name)
+
+    def test_f_strings(self):
+        for where, node in self.each():
+            if isinstance(node, ast.FormattedValue):
+                self.assertIsInstance(node.value, ast.Name, where)
+                self.assertIsNone(node.format_spec, where)
+
     def test_names(self):
         for path, tree in trees():
             heads = [item for item in ast.walk(tree) if isinstance(item, (ast.FunctionDef, ast.ClassDef))]

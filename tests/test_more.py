@@ -2,7 +2,7 @@ import unittest
 
 from tests.helper import (
     ANYTHING, NOT_PLAIN, ODD_TUPLES, Draw, all_keeps, all_whole, altered, drawn_keep, full_web, great_plain_webs,
-    is_number, plain_webs, ring_web, roofed, slow_fars, slow_hold, slow_way, tied,
+    plain_webs, ring_web, roofed, slow_fars, slow_hold, slow_led, slow_way,
 )
 from thinways.errors import NoPlain, ThinError
 from thinways.more import least_more, more_paper, more_right
@@ -22,17 +22,6 @@ def slow_more(web, keep):
     return (0, 0, 0) if most == 0 else min(row for row in grown if row[0] == most)
 
 
-def slow_steps(web, keep, tree, u, place):
-    links = tied(web, keep)
-    gone = [place]
-    while gone[-1] != u:
-        ahead = tree[gone[-1]]
-        if not is_number(ahead) or (gone[-1], ahead) not in links or ahead in gone:
-            return None
-        gone.append(ahead)
-    return len(gone) - 1
-
-
 def slow_more_right(web, keep, m, paper):
     if len(paper) != web[0]:
         return False
@@ -45,7 +34,7 @@ def slow_more_right(web, keep, m, paper):
         if not isinstance(tree, tuple) or len(tree) != web[0]:
             return False
         for place, height in enumerate(heights):
-            steps = slow_steps(web, keep, tree, u, place) if height < web[0] else 0
+            steps = slow_led(web, keep, tree, u, place) if height < web[0] else 0
             if steps is None or (height < web[0] and steps > height + m):
                 return False
     return True

@@ -3,7 +3,7 @@ from itertools import permutations
 
 from tests.helper import (
     ANYTHING, ODD_TUPLES, Draw, all_whole, altered, by_one, drawn_webs, full_web, great_webs, ring_web, slow_beyond,
-    slow_fars, slow_length, slow_of_times, slow_rings, slow_way, slow_within, webs_and_keeps,
+    slow_fars, slow_length, slow_of_times, slow_rings, slow_rule, slow_way, slow_within, webs_and_keeps,
 )
 from thinways.errors import NoOrder, ThinError
 from thinways.rule import needed, ring_rule, rule_in, rule_right
@@ -11,16 +11,6 @@ from thinways.spares import spare
 from thinways.webs import kept_length, made_web, order_of, whole
 
 RING = ring_web(5)
-
-
-def slow_rule(web, order, t):
-    kept = []
-    for tie in order:
-        a, b, length = web[1][tie]
-        far = slow_fars(web, kept)[a][b]
-        if far is None or far > t * length:
-            kept.append(tie)
-    return tuple(sorted(kept))
 
 
 def slow_rule_right(web, t, told):
